@@ -1,0 +1,1 @@
+"""Stepwright: rules by which motions are stepped, their orders shown exactly."""

@@ -1,0 +1,95 @@
+"""Tests that the interface is there: names, arguments, and each defined in the file that lists it."""
+
+import importlib
+import inspect
+import unittest
+
+FUNCTIONS = {
+    "parts": (
+        "shared(one, other)",
+        "part(top, low=1)",
+        "plus(one, other)",
+        "minus(one, other)",
+        "times(one, other)",
+        "over(one, other)",
+        "is_less(one, other)",
+        "size_of(one)",
+        "total(parts)",
+        "product(parts)",
+        "raised(one, count)",
+        "told(one)",
+        "read(text)",
+        "is_number(text)",
+        "scaled(row, by)",
+        "rows_added(one, other)",
+        "dot(one, other)",
+    ),
+    "trees": (
+        "grown(branches)",
+        "check_tree(tree)",
+        "order(tree)",
+        "height(tree)",
+        "leaves(tree)",
+        "density(tree)",
+        "symmetry(tree)",
+        "up_to(number)",
+        "rising_ways(tree)",
+        "trees_of(count)",
+        "forests(count, most, last)",
+        "trees_up_to(count)",
+        "joined(one, other)",
+        "told_tree(tree)",
+        "read_tree(text)",
+        "read_from(text, place)",
+        "cuts(tree)",
+        "tall(count)",
+        "bushy(count)",
+    ),
+}
+CLASSES = {
+    "errors": (
+        "StepFault",
+        "BadPart",
+        "BadTree",
+        "BadTable",
+        "BadField",
+        "BadPaper",
+        "BadSize",
+        "BadText",
+        "BadStore",
+        "NoSuch",
+    ),
+}
+
+
+def module_of(name):
+    return importlib.import_module(f"stepwright.{name}")
+
+
+class InterfaceTests(unittest.TestCase):
+    def test_functions_take_the_listed_arguments(self):
+        for name, heads in FUNCTIONS.items():
+            for head in heads:
+                with self.subTest(head):
+                    found = getattr(module_of(name), head.partition("(")[0])
+                    self.assertTrue(inspect.isfunction(found))
+                    self.assertEqual(found.__name__ + str(inspect.signature(found)), head)
+
+    def test_functions_and_classes_are_defined_in_their_file(self):
+        for name, heads in list(FUNCTIONS.items()) + list(CLASSES.items()):
+            for head in heads:
+                with self.subTest(head):
+                    found = getattr(module_of(name), head.partition("(")[0])
+                    self.assertEqual(found.__module__, f"stepwright.{name}")
+
+    def test_classes_are_classes(self):
+        for name, heads in CLASSES.items():
+            for head in heads:
+                self.assertTrue(inspect.isclass(getattr(module_of(name), head)))
+
+    def test_leaf(self):
+        self.assertEqual(module_of("trees").LEAF, ())
+
+
+if __name__ == "__main__":
+    unittest.main()
