@@ -122,3 +122,8 @@ def check_lengths(one, other):
     """Refuse two rows of unlike lengths; BadPart."""
     if len(one) != len(other):
         raise BadPart(f"rows of {len(one)} and {len(other)} parts")
+
+
+def small_row(row):
+    """Return a row of parts, each made small; BadPart."""
+    return tuple([part(one[0], one[1]) for one in row])

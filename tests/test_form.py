@@ -1,6 +1,7 @@
 """Tests of some rules of the language that the package is written in."""
 
 import ast
+import builtins
 import pathlib
 import unittest
 
@@ -53,6 +54,41 @@ class FormTests(unittest.TestCase):
                         words = set(word.name for word in node.names)
                         self.assertLessEqual(words, set(LIBRARY.get(node.module, ())), name)
 
+    def test_no_name_means_two_things(self):
+        for name, text in TEXTS.items():
+            whole = ast.parse(text)
+            taken = set(dir(builtins))
+            for node in whole.body:
+                if isinstance(node, ast.ImportFrom):
+                    taken |= set(word.name for word in node.names)
+                if isinstance(node, ast.ClassDef):
+                    taken.add(node.name)
+            for node in ast.walk(whole):
+                if isinstance(node, ast.Name) and isinstance(node.ctx, ast.Store):
+                    self.assertNotIn(node.id, taken, name)
+                if isinstance(node, ast.arg):
+                    self.assertNotIn(node.arg, taken, name)
+            for node in whole.body:
+                if isinstance(node, ast.FunctionDef):
+                    self.assertNotIn(node.name, taken, name)
+
+    def test_no_two_files_import_from_each_other(self):
+        asks = {}
+        for name, text in TEXTS.items():
+            heads = [node.module for node in nodes_of(text) if isinstance(node, ast.ImportFrom)]
+            asks[name] = [head.removeprefix("stepwright.") + ".py" for head in heads if head.startswith("stepwright.")]
+        while asks:
+            free = [name for name in asks if not any(other in asks for other in asks[name])]
+            self.assertTrue(free, asks)
+            for name in free:
+                del asks[name]
+
+    def test_exponents_are_literals(self):
+        for name, text in TEXTS.items():
+            for node in nodes_of(text):
+                if isinstance(node, ast.BinOp) and isinstance(node.op, ast.Pow):
+                    self.assertIsInstance(node.right, ast.Constant, name)
+
     def test_no_float_and_no_broken_division(self):
         for name, text in TEXTS.items():
             for node in nodes_of(text):
@@ -64,7 +100,9 @@ class FormTests(unittest.TestCase):
         for name, text in TEXTS.items():
             for node in nodes_of(text):
                 if isinstance(node, (ast.Module, ast.ClassDef, ast.FunctionDef)):
-                    self.assertTrue(ast.get_docstring(node), getattr(node, "name", name))
+                    label = getattr(node, "name", name)
+                    # What is handed to an __init__ is told by its class.
+                    self.assertTrue(label == "__init__" or ast.get_docstring(node), label)
 
 
 if __name__ == "__main__":

@@ -45,6 +45,42 @@ FUNCTIONS = {
         "tall(count)",
         "bushy(count)",
     ),
+    "tables": (
+        "paper_of(table, count)",
+        "check_paper(table, count, rows)",
+        "evenly(table, count)",
+        "stage_order(table, most)",
+        "keeps_squares(table)",
+        "turned_back(table)",
+        "behind(first, second, part_of_step)",
+        "is_same_back(table)",
+    ),
+    "series": (
+        "nothing(count)",
+        "exact(count)",
+        "of_table(table, count)",
+        "same_to(one, other)",
+        "turned_series(one)",
+        "greatest_lack(one)",
+        "mean_of(one, other)",
+    ),
+    "curves": (
+        "curve(parts)",
+        "power_of(one)",
+        "added(one, other)",
+        "scaled_curve(one, by)",
+        "taken(one, other)",
+        "multiplied(one, other)",
+        "divided(one, other)",
+        "worth(one, at)",
+        "slope(one)",
+        "area_under(one)",
+        "between(one, low, high)",
+        "through(points)",
+        "put_in(one, other)",
+        "shared_curve(one, other)",
+        "powers(count)",
+    ),
 }
 CLASSES = {
     "errors": (
@@ -58,6 +94,30 @@ CLASSES = {
         "BadText",
         "BadStore",
         "NoSuch",
+    ),
+    "tables": ("Table",),
+    "series": ("Series",),
+}
+METHODS = {
+    "tables.Table": (
+        "__init__(self, shares, weights)",
+        "stages(self)",
+        "is_plain(self)",
+        "is_stepwise(self)",
+        "inner(self, tree)",
+        "weight(self, tree)",
+        "lack(self, tree)",
+        "order(self, most)",
+        "shown(self)",
+    ),
+    "series.Series": (
+        "__init__(self, count, values)",
+        "at(self, tree)",
+        "behind(self, other)",
+        "undone(self)",
+        "scaled(self, by)",
+        "is_exact_to(self)",
+        "shown(self)",
     ),
 }
 
@@ -86,6 +146,17 @@ class InterfaceTests(unittest.TestCase):
         for name, heads in CLASSES.items():
             for head in heads:
                 self.assertTrue(inspect.isclass(getattr(module_of(name), head)))
+
+    def test_methods_are_defined_in_their_class_and_take_the_listed_arguments(self):
+        for name, heads in METHODS.items():
+            file, _, kind = name.partition(".")
+            rows = vars(getattr(module_of(file), kind))
+            for head in heads:
+                with self.subTest(f"{name}.{head}"):
+                    found = rows[head.partition("(")[0]]
+                    self.assertTrue(inspect.isfunction(found))
+                    self.assertEqual(found.__name__ + str(inspect.signature(found)), head)
+                    self.assertEqual(found.__module__, f"stepwright.{file}")
 
     def test_leaf(self):
         self.assertEqual(module_of("trees").LEAF, ())
