@@ -127,3 +127,8 @@ def check_lengths(one, other):
 def small_row(row):
     """Return a row of parts, each made small; BadPart."""
     return tuple([part(one[0], one[1]) for one in row])
+
+
+def halfway(one, other):
+    """Return the part halfway between two parts."""
+    return over(plus(one, other), (2, 1))

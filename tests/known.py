@@ -4,6 +4,7 @@ import itertools
 import math
 from fractions import Fraction
 
+from stepwright.fields import Field
 from stepwright.tables import Table
 
 
@@ -110,3 +111,40 @@ def are_tuples(found):
     return not isinstance(found, list) and (
         not isinstance(found, tuple) or all(are_tuples(one) for one in found)
     )
+
+
+def poly_rows(text):
+    """Read the rows of a polynomial: terms with semicolons between, each a part, a star and powers with dots."""
+    found = []
+    for term in text.split(";"):
+        if term.strip():
+            one, _, letters = term.strip().partition("*")
+            found.append((tuple(int(power) for power in letters.split(".")), as_part(one)))
+    return tuple(found)
+
+
+def field_of(*texts):
+    """Read a field: a polynomial for each letter."""
+    return Field([poly_rows(text) for text in texts])
+
+
+GROWING = field_of("1*1")
+SQUARING = field_of("1*2")
+TURNING = field_of("-1*0.1", "1*1.0")
+HUNTING = field_of("2/3*1.0; -4/3*1.1", "-1*0.1; 1*1.1")
+TWISTING = field_of("1*0.1.1", "-1*1.0.1", "-1/2*1.1.0")
+STEEP = field_of("1*0.0; -1/2*2.1; 1/3*0.3", "3*1.0; -1*1.2")
+TIMED = field_of("1*0.0", "1*1.0; -2*0.2")
+STILL = field_of("3/2*0.0", "")
+
+# (field, a point of it)
+MOTIONS = (
+    (GROWING, parts_of("2/3")),
+    (SQUARING, parts_of("-1/2")),
+    (TURNING, parts_of("1/2 -3")),
+    (HUNTING, parts_of("1/2 3/4")),
+    (TWISTING, parts_of("1 -1/2 1/3")),
+    (STEEP, parts_of("1/2 -1/3")),
+    (TIMED, parts_of("0 2")),
+    (STILL, parts_of("1/5 7")),
+)
