@@ -48,6 +48,25 @@ SIX = table_of(
 )
 ODD = table_of("1/3 -2 0; 5/7 1 1/2; 0 3 -1/4", "2/3 -1 5/6")
 
+
+def even_midsts(most):
+    """Make the rule of the middle rule in one, two, .. even steps, put together so that errors' powers go.
+
+    The middle rule undone is itself, so its error has even powers alone, and each row takes two of them.
+    """
+    size = sum(range(1, most + 1))
+    shares, weights = [], []
+    for count in range(1, most + 1):
+        part_of_all = math.prod(Fraction(count ** 2, count ** 2 - other ** 2)
+                                for other in range(1, most + 1) if other != count)
+        for turn in range(count):
+            row = [Fraction(1, count)] * turn + [Fraction(1, 2 * count)]
+            row = [Fraction(0)] * (len(shares) - turn) + row
+            shares.append(row + [Fraction(0)] * (size - len(row)))
+            weights.append(part_of_all / count)
+    return Table([[as_part(one) for one in row] for row in shares], [as_part(one) for one in weights])
+
+
 ORDERS = (
     ("EULER", EULER, 1),
     ("END", END, 1),

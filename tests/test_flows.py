@@ -15,7 +15,7 @@ from stepwright.series import exact, of_table, turned_series
 from stepwright.trees import density
 from tests.known import (
     END, EULER, FOUR, GROWING, HUNTING, LOBATTO, MIDDLE, MOTIONS, ODD, ORDERS, RADAU, RULES, SIX, SQUARING, STEEP,
-    STEPWISE, STILL, THREE, TRAPEZE, TURNING, TWISTING, TWO_END, TWO_MIDDLE, are_tuples, as_part, field_of,
+    STEPWISE, STILL, THREE, TRAPEZE, TURNING, TWISTING, TWO_END, TWO_MIDDLE, are_tuples, as_part, even_midsts, field_of,
     fractions_of, parts_of, poly_rows, table_of,
 )
 
@@ -140,6 +140,9 @@ class RefusedTests(unittest.TestCase):
                     lambda: motion(field, wrong, 3),
                     lambda: step_rows(FOUR, field, wrong, 3),
                     lambda: by_trees(due_of, field, wrong, 3),
+                    lambda: motion(field, wrong, 0),
+                    lambda: step_rows(FOUR, field, wrong, 0),
+                    lambda: by_trees(due_of, field, wrong, 0),
                     lambda: step(FOUR, field, wrong, (1, 2)),
                     lambda: flows.steps(FOUR, field, wrong, (1, 2), 2),
                     lambda: flows.steps(FOUR, field, wrong, (1, 2), 0),
@@ -235,6 +238,7 @@ class PowerRowTests(unittest.TestCase):
             self.assertEqual(flows.agree_to(one, other), due)
             self.assertEqual(flows.agree_to([list(row) for row in other], [list(row) for row in one]), due)
         self.assertEqual(flows.agree_to((parts_of("1"),), (parts_of("1"),)), 0)
+        self.assertEqual(flows.agree_to((), ()), -1)
 
 
 class RuleTests(unittest.TestCase):
@@ -370,6 +374,12 @@ class MainPromiseTests(unittest.TestCase):
             for field, point in MOTIONS:
                 found = flows.agree_to(step_rows(table, field, point, 6), motion(field, point, 6))
                 self.assertGreaterEqual(found, table.order(6))
+
+    def test_a_rule_of_order_eight_agrees_up_to_the_eighth_power(self):
+        table = even_midsts(4)
+        self.assertEqual(table.order(8), 8)
+        for field, point in MOTIONS:
+            self.assertEqual(step_rows(table, field, point, 8), motion(field, point, 8))
 
     def test_two_rules_behind_each_other_are_one_by_the_points(self):
         for first, second in itertools.product((EULER, TWO_END, FOUR), (TWO_MIDDLE, THREE)):

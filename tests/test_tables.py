@@ -162,6 +162,13 @@ class OrderTests(unittest.TestCase):
                 self.assertEqual(table.order(most), min(most, order))
         self.assertEqual(TWO_END.order(8), 2)
 
+    def test_orders_up_to_eight(self):
+        for most in range(1, 5):
+            table = known.even_midsts(most)
+            self.assertEqual(table.order(8), 2 * most)
+            self.assertEqual(table.order(2 * most), 2 * most)
+            self.assertEqual(tables.check_paper(table, 8, tables.paper_of(table, 8)), 2 * most)
+
     def test_below_nought_and_past_eight_are_refused(self):
         for most in (-1, -5, 9, 100):
             with self.assertRaises(BadSize):
