@@ -110,10 +110,15 @@ def step(table, field, point, length):
     if not table.is_plain():
         raise BadField("a rule whose stages hang on later ones or on themselves")
     start = check_point(field, point)
+    return moved(start, table.weights, stage_slopes(table, field, start, length), length)
+
+
+def stage_slopes(table, field, point, length):
+    """Return the row of slopes at each stage of a plain rule's step."""
     slopes = []
     for shares in table.shares:
-        slopes.append(field.at(moved(start, shares, slopes, length)))
-    return moved(start, table.weights, slopes, length)
+        slopes.append(field.at(moved(point, shares, slopes, length)))
+    return slopes
 
 
 def moved(point, shares, slopes, length):

@@ -1,7 +1,7 @@
 """Matrices: squares of parts, put together, turned about, and what rules make of motions by them."""
 
 from stepwright.errors import BadField, BadPart
-from stepwright.parts import dot, is_less, minus, over, rows_added, scaled, size_of, total
+from stepwright.parts import dot, greatest, minus, over, rows_added, scaled, size_of, total
 
 
 def check_square(rows):
@@ -132,9 +132,4 @@ def form_worth(form, row):
 
 def size_by_rows(one):
     """Return the greatest sum of a row's parts without their signs."""
-    most = (0, 1)
-    for row in one:
-        here = total([size_of(mine) for mine in row])
-        if is_less(most, here):
-            most = here
-    return most
+    return greatest([total([size_of(mine) for mine in row]) for row in one])

@@ -132,3 +132,21 @@ def small_row(row):
 def halfway(one, other):
     """Return the part halfway between two parts."""
     return over(plus(one, other), (2, 1))
+
+
+def greatest(parts):
+    """Return the greatest of parts, nought where none is above it."""
+    most = (0, 1)
+    for one in parts:
+        if is_less(most, one):
+            most = one
+    return most
+
+
+def greatest_pair(pairs):
+    """Return the (name, part) whose part is greatest without its sign, the first such, None for none."""
+    best = None
+    for name, one in pairs:
+        if best is None or is_less(size_of(best[1]), size_of(one)):
+            best = (name, one)
+    return best

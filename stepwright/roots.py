@@ -2,7 +2,7 @@
 
 from stepwright.curves import curve, divided, scaled_curve, shared_curve, slope, worth
 from stepwright.errors import BadSize
-from stepwright.parts import halfway, is_less, minus, over, plus, size_of, times
+from stepwright.parts import greatest, halfway, is_less, minus, over, plus, size_of, times
 
 
 def rests(one):
@@ -45,12 +45,7 @@ def bound(one):
     """Return a part greater than each root without its sign; BadSize for a bare one."""
     if len(one) == 0:
         raise BadSize("a bare polynomial is nought everywhere")
-    most = (0, 1)
-    for other in one[:-1]:
-        share = size_of(over(other, one[-1]))
-        if is_less(most, share):
-            most = share
-    return plus(most, (1, 1))
+    return plus(greatest([size_of(over(other, one[-1])) for other in one[:-1]]), (1, 1))
 
 
 def all_of(one):

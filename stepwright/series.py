@@ -1,7 +1,7 @@
 """Series: numbers for trees, as rules have them, one behind another, undone, and known ones."""
 
 from stepwright.errors import BadSize, NoSuch
-from stepwright.parts import is_less, minus, over, part, plus, product, size_of, times, total
+from stepwright.parts import greatest_pair, minus, over, part, plus, product, times, total
 from stepwright.trees import cuts, density, height, order, trees_up_to
 
 
@@ -98,11 +98,8 @@ def turned_series(one):
 
 def greatest_lack(one):
     """Return the (tree, part less one by the density) greatest without its sign, the first such; NoSuch for none."""
-    best = None
-    for tree in one.rows:
-        lack = minus(one.rows[tree], (1, density(tree)))
-        if lack[0] != 0 and (best is None or is_less(size_of(best[1]), size_of(lack))):
-            best = (tree, lack)
+    lacks = [(tree, minus(one.rows[tree], (1, density(tree)))) for tree in one.rows]
+    best = greatest_pair([(tree, lack) for tree, lack in lacks if lack[0] != 0])
     if best is None:
         raise NoSuch("no lack")
     return best

@@ -176,6 +176,52 @@ FUNCTIONS = {
         "form_worth(form, row)",
         "size_by_rows(one)",
     ),
+    "splits": (
+        "check_turns(turns)",
+        "words_of(count)",
+        "one_turn(letter, one, count)",
+        "put_behind(first, second, count)",
+        "of_turns(turns, count)",
+        "both_at_once(count)",
+        "order_of(turns, most)",
+        "together(turns)",
+        "back_turns(turns)",
+        "is_even_turns(turns)",
+        "scaled_turns(turns, by)",
+        "raised_order(turns, parts)",
+        "greatest_word(turns, count)",
+        "letters_of(turns)",
+    ),
+    "nodes": (
+        "check_places(places)",
+        "bases(places)",
+        "by_nodes(places)",
+        "part_weights(places)",
+        "part_lack(table, weights, tree, at)",
+        "part_order(table, weights, most)",
+        "straight_weights(table)",
+        "same_weights(places)",
+        "joined_pair(table, weights)",
+        "lesser_weights(table, others)",
+        "grown_table(table)",
+        "at_part(table, weights, at)",
+        "sum_of_weights(weights, at)",
+        "even_places(count)",
+    ),
+    "walks": (
+        "taken_rows(rows)",
+        "greatest_error(rows)",
+        "lengths(rows)",
+        "even_walk(table, field, point, length, count)",
+    ),
+    "desks": (
+        "number(word)",
+        "row_of(word)",
+        "poly_rows(word, letters)",
+        "figure_of(text)",
+        "lines_of(text)",
+        "done_again(text)",
+    ),
 }
 CLASSES = {
     "errors": (
@@ -195,6 +241,8 @@ CLASSES = {
     "areas": ("Rule",),
     "fields": ("Field",),
     "rows": ("Steps",),
+    "walks": ("Walk",),
+    "desks": ("Desk",),
 }
 METHODS = {
     "tables.Table": (
@@ -245,6 +293,25 @@ METHODS = {
         "next_point(self, field, points, length)",
         "shown(self)",
     ),
+    "walks.Walk": (
+        "__init__(self, table, others, most, shorter, longer, calm)",
+        "both(self, field, point, length)",
+        "go(self, field, point, time, end, length, tries)",
+        "next_length(self, length, error)",
+        "end_of(self, field, rows, time, point)",
+        "check(self, field, rows, end)",
+    ),
+    "desks.Desk": (
+        "__init__(self)",
+        "say(self, line)",
+        "do(self, line)",
+        "here(self)",
+        "there(self)",
+        "told_point(self)",
+        "let(self, table, words)",
+        "write(self, words, answer)",
+        "answer(self, words)",
+    ),
 }
 
 
@@ -284,8 +351,11 @@ class InterfaceTests(unittest.TestCase):
                     self.assertEqual(found.__name__ + str(inspect.signature(found)), head)
                     self.assertEqual(found.__module__, f"stepwright.{file}")
 
-    def test_leaf(self):
+    def test_plain_values(self):
         self.assertEqual(module_of("trees").LEAF, ())
+        self.assertEqual(module_of("desks").MOST, 10 ** 40)
+        self.assertEqual(module_of("desks").BASE, 9973)
+        self.assertEqual(module_of("desks").WIDE, 2000003)
 
 
 if __name__ == "__main__":

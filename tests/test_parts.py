@@ -254,5 +254,24 @@ class RowTests(unittest.TestCase):
         self.assertEqual((row, other), ([(1, 2), (2, 3)], [(1, 1)]))
 
 
+class GreatestTests(unittest.TestCase):
+    def test_greatest(self):
+        for row, due in (
+            ((), (0, 1)), (((1, 2), (2, 3), (1, 3)), (2, 3)), (((-1, 2), (-3, 1)), (0, 1)), (((5, 1), (-9, 1)), (5, 1)),
+            (((3, 7), (3, 7)), (3, 7)),
+        ):
+            self.assertEqual(parts.greatest(row), due)
+            self.assertEqual(parts.greatest(list(row)), due)
+
+    def test_greatest_pair(self):
+        for pairs, due in (
+            ((), None), ((("x", (0, 1)),), ("x", (0, 1))), ((("x", (0, 1)), ("y", (0, 1))), ("x", (0, 1))),
+            ((("x", (1, 2)), ("y", (-2, 3)), ("z", (2, 3))), ("y", (-2, 3))),
+            ((("x", (-1, 2)), ("y", (1, 3))), ("x", (-1, 2))),
+        ):
+            self.assertEqual(parts.greatest_pair(pairs), due)
+            self.assertEqual(parts.greatest_pair(list(pairs)), due)
+
+
 if __name__ == "__main__":
     unittest.main()

@@ -5,21 +5,35 @@ import unittest
 from fractions import Fraction
 
 from stepwright import matrices
-from stepwright.errors import StepFault
-from stepwright.fields import line_field
-from stepwright.flows import by_trees, motion, step, step_rows
-from stepwright.limits import behind_share, grown_by, growth, power_share
-from stepwright.rows import by_slopes
+from stepwright.areas import Rule, by_places
+from stepwright.curves import added, multiplied
+from stepwright.desks import Desk, done_again
+from stepwright.errors import (
+    BadField, BadPaper, BadPart, BadSize, BadStore, BadTable, BadText, BadTree, NoSuch, StepFault,
+)
+from stepwright.fields import line_field, poly
+from stepwright.flows import agree_to, by_trees, motion, poly_of_rows, step, step_rows
+from stepwright.limits import behind_share, check_calm, follows_to, grown_by, growth, power_share
+from stepwright.nodes import at_part, by_nodes, grown_table, joined_pair, part_weights
+from stepwright.parts import over, read
+from stepwright.rows import Steps, by_slopes, by_slopes_and_newest
 from stepwright.series import exact, nothing, of_table, same_to, turned_series
-from stepwright.tables import Table, behind, is_same_back, turned_back
+from stepwright.splits import order_of
+from stepwright.tables import Table, behind, check_paper, evenly, is_same_back, keeps_squares, turned_back
 from stepwright.trees import tall
+from stepwright.walks import Walk, even_walk
 from tests.known import (
     END, EULER, FOUR, GROWING, HUNTING, LOBATTO, MIDDLE, MOTIONS, ODD, RADAU, RULES, SIX, STEEP, STEPWISE, THREE,
-    TRAPEZE, TWISTING, TWO_END, TWO_MIDDLE, as_part, parts_of,
+    TRAPEZE, TURNING, TWISTING, TWO_END, TWO_MIDDLE, as_part, field_of, parts_of,
 )
 
 PARTS_OF_STEP = ((0, 1), (1, 1), (1, 2), (1, 3), (5, 7))
+PLACES = tuple(parts_of(text) for text in ("0", "1", "1/2", "0 1", "1/3 1", "0 1/2 1", "1/4 3/4", "0 1/3 2/3 1"))
 PAIRS = ((EULER, TWO_END), (END, RADAU), (ODD, THREE), (FOUR, TRAPEZE), (TWO_MIDDLE, STEPWISE))
+
+
+def fraction_of(part):
+    return Fraction(*part)
 
 
 class BehindTests(unittest.TestCase):
@@ -152,34 +166,177 @@ class LineTests(unittest.TestCase):
             self.assertEqual(matrices.step_square(both, square, (1, 4)), matrices.behind_square(mine, its))
 
 
-class RefusedTests(unittest.TestCase):
-    def test_what_is_refused_changes_nothing(self):
-        series, rule = of_table(FOUR, 4), by_slopes(2)
-        before = (FOUR.shown(), HUNTING.shown(), series.shown(), rule.shown(), growth(FOUR))
-        for deed in (
-            lambda: step(RADAU, HUNTING, parts_of("1 2"), (1, 2)),
-            lambda: step(FOUR, HUNTING, parts_of("1"), (1, 2)),
-            lambda: motion(HUNTING, parts_of("1 2"), 9),
-            lambda: FOUR.order(9),
-            lambda: FOUR.weight(((), 1)),
-            lambda: series.at(tall(5)),
-            lambda: series.behind(exact(5)),
-            lambda: rule.next_point(HUNTING, [parts_of("1 2")], (1, 2)),
-            lambda: rule.lack(-1),
-            lambda: power_share(growth(FOUR), -1),
-            lambda: matrices.step_square(growth(END), matrices.one_of(2), (1, 1)),
+class SameRulesTests(unittest.TestCase):
+    def test_a_table_of_places_has_the_weights_of_the_areas_rule(self):
+        for places in PLACES:
+            self.assertEqual(by_nodes(places).weights, by_places(places).weights)
+
+    def test_places_and_slopes_behind_each_other(self):
+        # Through slopes at so many places, the last two a step apart: the area of that step alone.
+        for count in range(1, 5):
+            places = [(at - count + 1, 1) for at in range(count + 1)]
+            self.assertEqual(by_slopes_and_newest(count).slopes, by_places(places).weights)
+            self.assertEqual(by_slopes(count).slopes[:-1], by_places(places[:-1]).weights)
+
+    def test_a_step_of_a_field_of_time_alone_is_an_area(self):
+        # The second letter moves by a curve of the first, which is the time; plain rules step, others tell rows.
+        field = field_of("1*0.0", "2*0.0; -1*1.0; 1/3*3.0")
+        for table in RULES:
+            if len(set(table.places)) < table.stages() or sum(map(fraction_of, table.weights)) != 1:
+                continue
+            rule = Rule(table.places, table.weights)
+            length = Fraction(3, 2)
+            rows = step_rows(table, field, parts_of("0 1"), 4)
+            told = sum(Fraction(*part) * length ** power for power, part in enumerate(rows[1]))
+            area = rule.area(lambda at: field.at((at, (0, 1)))[1], (0, 1), as_part(length))
+            self.assertEqual(as_part(told - 1), area)
+            if table.is_plain():
+                self.assertEqual(step(table, field, parts_of("0 1"), as_part(length))[1], as_part(told))
+
+    def test_areas_are_exact_as_far_as_weights_are_even(self):
+        for places in PLACES:
+            table, rule = by_nodes(places), by_places(places)
+            self.assertTrue(evenly(table, rule.exact_to(9) + 1))
+            self.assertFalse(evenly(table, rule.exact_to(9) + 2))
+
+    def test_rules_of_places_follow_as_far_as_their_order_on_lines(self):
+        for places in PLACES:
+            table = by_nodes(places)
+            self.assertGreaterEqual(follows_to(growth(table), 9), table.order(6))
+
+    def test_an_even_walk_is_steps_of_tables_behind_each_other(self):
+        for field, point in MOTIONS[:4]:
+            there, finer, _ = even_walk(TWO_END, field, point, (1, 3), 1)
+            self.assertEqual(there, step(TWO_END, field, point, (1, 3)))
+            self.assertEqual(finer, step(behind(TWO_END, TWO_END, (1, 2)), field, point, (1, 3)))
+
+    def test_turns_of_two_shears_agree_with_the_motion_up_to_their_order(self):
+        # Each of the two letters moves alone, by the other: its motion is a shear, told whole by the first power.
+        due = motion(TURNING, parts_of("1 0"), 6)
+        for turns, order in (
+            ("a 1 b 1", 1), ("a 1/2 b 1 a 1/2", 2), ("a 7/24 b 2/3 a 3/4 b -2/3 a -1/24 b 1", 3), ("a 1/2 b 1", 0),
         ):
-            with self.assertRaises(StepFault):
-                deed()
-            after = (FOUR.shown(), HUNTING.shown(), series.shown(), rule.shown(), growth(FOUR))
-            self.assertEqual(after, before)
+            words = turns.split()
+            row = [(letter, parts_of(one)[0]) for letter, one in zip(words[::2], words[1::2])]
+            self.assertEqual(order_of(row, 5), order)
+            point = [parts_of("1"), ()]
+            for letter, (top, low) in row:
+                if letter == "a":
+                    point[0] = added(point[0], multiplied(((0, 1), (-top, low)), point[1]))
+                else:
+                    point[1] = added(point[1], multiplied(((0, 1), (top, low)), point[0]))
+            told = [one + ((0, 1),) * (7 - len(one)) for one in point]
+            self.assertGreaterEqual(agree_to(told, due), order)
+            self.assertLessEqual(agree_to(told, due), order + 1)
+
+
+class RefusedTests(unittest.TestCase):
+    def setUp(self):
+        self.table, self.field, self.series = FOUR, HUNTING, of_table(FOUR, 4)
+        self.rule, self.walk, self.desk = by_slopes(2), Walk(EULER, [(1, 2)], (1, 9), (1, 2), (2, 1), (1, 2)), Desk()
+        for line in ("rule 0,0 1/2,0 0,1", "field 1*1", "at 2"):
+            self.desk.say(line)
+
+    def held(self):
+        walk = self.walk
+        return (
+            self.table.shown(), self.field.shown(), self.series.shown(), self.rule.shown(), growth(self.table),
+            (walk.table.shown(), walk.others, walk.most, walk.shorter, walk.longer, walk.calm),
+            (self.desk.table.shown(), self.desk.field.shown(), self.desk.point, self.desk.text, self.desk.many),
+        )
+
+    def deeds(self):
+        point = parts_of("1 2")
+        return (
+            (BadPart, lambda: over((1, 1), (0, 3))),
+            (BadPart, lambda: read("1/")),
+            (BadPart, lambda: Table([[(1, 0)]], [(1, 1)])),
+            (BadPart, lambda: grown_by(growth(END), (1, 1))),
+            (BadPart, lambda: matrices.step_square(growth(END), matrices.one_of(2), (1, 1))),
+            (BadPart, lambda: self.desk.do("step x")),
+            (BadTree, lambda: self.table.weight(((), 1))),
+            (BadTree, lambda: self.desk.do("weight (")),
+            (BadTable, lambda: Table([[(1, 1)]], [])),
+            (BadTable, lambda: Steps([(1, 1), (0, 1)], [(1, 1), (0, 1)])),
+            (BadTable, lambda: by_nodes([(1, 2), (1, 2)])),
+            (BadTable, lambda: order_of([], 3)),
+            (BadTable, lambda: self.desk.do("nodes 0,0")),
+            (BadField, lambda: step(RADAU, self.field, point, (1, 2))),
+            (BadField, lambda: step(self.table, self.field, point[1:], (1, 2))),
+            (BadField, lambda: self.rule.next_point(self.field, [point], (1, 2))),
+            (BadField, lambda: matrices.check_square([])),
+            (BadField, lambda: self.walk.both(self.field, point[:1], (1, 2))),
+            (BadField, lambda: self.desk.do("at 1,2")),
+            (BadPaper, lambda: check_paper(self.table, 2, [((), (1, 2))])),
+            (BadPaper, lambda: check_calm(growth(EULER), [(1, 1)])),
+            (BadPaper, lambda: self.walk.check(GROWING, [((0, 1), ((1, 1),), (1, 2), (1, 9), True)], (1, 1))),
+            (BadSize, lambda: motion(self.field, point, 9)),
+            (BadSize, lambda: self.table.order(9)),
+            (BadSize, lambda: self.series.behind(exact(5))),
+            (BadSize, lambda: self.rule.order(-1)),
+            (BadSize, lambda: power_share(growth(self.table), -1)),
+            (BadSize, lambda: self.walk.go(self.field, point, (1, 1), (0, 1), (1, 2), 3)),
+            (BadSize, lambda: self.desk.do("lacks 9")),
+            (BadText, lambda: self.desk.do("point 1")),
+            (BadText, lambda: self.desk.do("field 1")),
+            (BadStore, lambda: done_again("0 rule 0 1 7\n")),
+            (NoSuch, lambda: self.series.at(tall(5))),
+            (NoSuch, lambda: Desk().do("tells")),
+        )
+
+    def refuse(self, kind, deed):
+        before = self.held()
+        with self.assertRaises(StepFault) as caught:
+            deed()
+        self.assertIs(type(caught.exception), kind)
+        self.assertEqual(self.held(), before)
+
+    def test_each_kind_with_nothing_changed_behind_it(self):
+        deeds = self.deeds()
+        self.assertEqual(len(set(kind for kind, deed in deeds)), 9)
+        for kind, deed in deeds:
+            self.refuse(kind, deed)
+
+    def test_whatever_was_refused_ahead_of_it(self):
+        deeds = self.deeds()
+        for turn in range(1, len(deeds)):
+            for kind, deed in (deeds[turn], deeds[-turn], deeds[turn]):
+                self.refuse(kind, deed)
+
+
+class KeptTests(unittest.TestCase):
+    def test_rules_that_keep_squares_keep_forms_step_by_step(self):
+        rules = (MIDDLE, Table([parts_of("1/4 0"), parts_of("1/2 1/4")], parts_of("1/2 1/2")),
+                 behind(MIDDLE, MIDDLE, (1, 3)), EULER, TRAPEZE, FOUR, behind(MIDDLE, END, (1, 2)))
+        form, square = (parts_of("2 0"), parts_of("0 1")), (parts_of("0 -1"), parts_of("2 0"))
+        self.assertTrue(matrices.still_form(form, square))
+        for table, due in zip(rules, (True, True, True, False, None, False, False)):
+            told = matrices.step_square(growth(table), square, (2, 7))
+            row, first = parts_of("1 -3"), matrices.form_worth(form, parts_of("1 -3"))
+            for count in range(1, 5):
+                row = matrices.of_row(told, row)
+                self.assertEqual(row, matrices.of_row(matrices.raised_square(told, count), parts_of("1 -3")))
+                if due is not None:
+                    self.assertEqual(matrices.form_worth(form, row) == first, due)
+            if due is not None:
+                self.assertEqual(matrices.square_kept(form, told), due)
+                self.assertEqual(keeps_squares(table), due)
+
+    def test_kept_polynomials_of_squares_power_by_power(self):
+        kept = poly([((2, 0, 0), (1, 1)), ((0, 0, 2), (2, 1))])
+        self.assertTrue(TWISTING.keeps(kept))
+        for table in (MIDDLE, behind(MIDDLE, MIDDLE, (1, 3)), TRAPEZE, END, THREE):
+            rows = step_rows(table, TWISTING, parts_of("1 -1/2 1/3"), 7)
+            told = poly_of_rows(kept, rows, 7)
+            self.assertEqual(told[1:] == [(0, 1)] * 7, keeps_squares(table))
 
 
 class MainPromiseTests(unittest.TestCase):
     def test_rules_put_together_differ_from_the_motion_by_what_their_trees_lack(self):
         for table in (
             behind(EULER, END, (1, 3)), behind(RADAU, TWO_END, (2, 3)), turned_back(THREE),
-            behind(turned_back(EULER), EULER, (1, 2)),
+            behind(turned_back(EULER), EULER, (1, 2)), by_nodes(parts_of("0 1/4 1")), grown_table(TWO_MIDDLE),
+            joined_pair(THREE, parts_of("1/3 1/3 1/3")), at_part(TWO_END, part_weights(parts_of("0 1")), (1, 3)),
         ):
             for field, point in ((HUNTING, parts_of("1/2 3/4")), (TWISTING, parts_of("1 -1/2 1/3")),
                                  (STEEP, parts_of("1/2 -1/3"))):
@@ -190,6 +347,17 @@ class MainPromiseTests(unittest.TestCase):
                         self.assertEqual(
                             Fraction(*row[power]) - Fraction(*due_row[power]), Fraction(*lack_row[power]),
                         )
+
+    def test_orders_by_trees_against_motions(self):
+        for table in (
+            by_nodes(parts_of("1/4 3/4")), by_nodes(parts_of("0 1/2 1")), behind(RADAU, RADAU, (1, 2)),
+            turned_back(RADAU), grown_table(THREE), joined_pair(TWO_END, parts_of("1 0")), ODD, STEPWISE,
+        ):
+            agreed = []
+            for field, point in ((HUNTING, parts_of("1/2 3/4")), (TWISTING, parts_of("1 -1/2 1/3")),
+                                 (STEEP, parts_of("1/2 -1/3")), (GROWING, parts_of("2/3"))):
+                agreed.append(agree_to(step_rows(table, field, point, 6), motion(field, point, 6)))
+            self.assertEqual(min(agreed), table.order(6))
 
 
 if __name__ == "__main__":
