@@ -15,6 +15,10 @@ LIBRARY = {
     ),
     "collections": ("defaultdict", "deque"),
 }
+BUILTINS = (
+    "len", "range", "enumerate", "zip", "min", "max", "sum", "abs", "sorted", "reversed", "int", "str", "bool", "list",
+    "tuple", "dict", "set", "isinstance", "ord", "any", "all", "divmod", "ValueError",
+)
 FILES = sorted(path for path in PACKAGE.rglob("*") if path.is_file() and "__pycache__" not in path.parts)
 TEXTS = {path.name: path.read_text(encoding="utf-8") for path in FILES}
 
@@ -95,6 +99,18 @@ class FormTests(unittest.TestCase):
                 self.assertNotIsInstance(node, (ast.Div, ast.AsyncFunctionDef), name)
                 if isinstance(node, ast.Constant):
                     self.assertNotIsInstance(node.value, (float, complex), name)
+
+    def test_no_other_builtins(self):
+        for name, text in TEXTS.items():
+            for node in nodes_of(text):
+                if isinstance(node, ast.Name) and node.id in dir(builtins):
+                    self.assertIn(node.id, BUILTINS, name)
+
+    def test_no_sign_of_shares_in_strings(self):
+        for name, text in TEXTS.items():
+            for node in nodes_of(text):
+                if isinstance(node, ast.Constant) and isinstance(node.value, str):
+                    self.assertNotIn("%", node.value, name)
 
     def test_every_file_class_and_function_says_what_it_is(self):
         for name, text in TEXTS.items():
